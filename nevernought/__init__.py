@@ -1,0 +1,1 @@
+"""Reckonings whose products hang on their order, with undoings."""

@@ -1,0 +1,151 @@
+"""The package keeps to its part of Python, and so to promise [1]: no clock, no chance, no files."""
+
+import ast
+import builtins
+import pathlib
+import re
+import unittest
+
+PACKAGE = pathlib.Path(__file__).resolve().parent.parent / "nevernought"
+BUILTINS = set("""len range enumerate zip min max sum abs sorted reversed int str bool bytes list tuple dict set
+    frozenset isinstance ord repr any all divmod iter next super property staticmethod classmethod object
+    Exception ValueError TypeError KeyError IndexError LookupError ZeroDivisionError ArithmeticError OverflowError
+    RuntimeError NotImplementedError AttributeError StopIteration NotImplemented""".split())
+METHODS = set("""append clear copy count endswith extend find get index insert isalnum isalpha isdigit islower
+    isspace isupper items join keys ljust lower lstrip partition pop remove replace reverse rfind rjust rpartition
+    rsplit rstrip setdefault split splitlines startswith strip update upper values zfill bit_length
+    title capitalize swapcase casefold center expandtabs removeprefix removesuffix rindex isascii isdecimal
+    isnumeric istitle isidentifier isprintable encode decode hex translate maketrans sort add discard
+    from_bytes""".split())
+BARRED_WORDS = r"""\b(type|typing|typing_extensions|enum|Enum|IntEnum|StrEnum|Flag|IntFlag|Generic|Protocol|ABC
+    |ABCMeta|namedtuple|NamedTuple|TypedDict|TYPE_CHECKING|abstractmethod)\b|dataclass|overload|contextmanager"""
+BARRED_NODES = (ast.Global, ast.AsyncFunctionDef, ast.AsyncFor, ast.AsyncWith, ast.Await, ast.Div, ast.Import,
+                ast.MatchClass, ast.MatchMapping)
+DOUBLE_UNDERSCORES = r"__[a-z]+__"
+
+
+def sources():
+    """Each file of the package: its path, its text and its tree."""
+    for path in sorted(PACKAGE.glob("*.py")):
+        text = path.read_text(encoding="utf-8")
+        yield path, text, ast.parse(text)
+
+
+def bound_at_top(tree):
+    """The names that a module binds, in their order."""
+    names = []
+    for node in tree.body:
+        if isinstance(node, (ast.FunctionDef, ast.ClassDef)):
+            names.append(node.name)
+        elif isinstance(node, ast.ImportFrom):
+            names += [alias.asname or alias.name for alias in node.names]
+        elif isinstance(node, ast.Assign):
+            names += [target.id for target in node.targets]
+    return names
+
+
+def defined_in(tree):
+    imported = [alias.name for node in tree.body if isinstance(node, ast.ImportFrom) for alias in node.names]
+    return [name for name in bound_at_top(tree) if name not in imported]
+
+
+def imports_of(tree):
+    return [node for node in ast.walk(tree) if isinstance(node, ast.ImportFrom)]
+
+
+def local_names(function):
+    """All names that a function assigns, its parameters included."""
+    arguments = function.args
+    told = [*arguments.args, *arguments.kwonlyargs, arguments.vararg, arguments.kwarg]
+    names = {argument.arg for argument in told if argument is not None}
+    for node in ast.walk(function):
+        if isinstance(node, ast.Name) and isinstance(node.ctx, ast.Store):
+            names.add(node.id)
+    return names
+
+
+class Language(unittest.TestCase):
+    def test_files(self):
+        self.assertTrue((PACKAGE / "__init__.py").is_file())
+        for path in PACKAGE.iterdir():
+            if path.name != "__pycache__":
+                self.assertRegex(path.name, r"\A[a-z_][a-z0-9_]*\.py\Z")
+
+    def test_signs_and_sizes(self):
+        for path, text, tree in sources():
+            with self.subTest(path.name):
+                self.assertRegex(text, r"\A[ -~\n]*\Z")
+                rows = text.split("\n")
+                self.assertLessEqual(len(rows), 401)
+                self.assertLessEqual(max(len(row) for row in rows), 120)
+                for node in ast.walk(tree):
+                    if isinstance(node, ast.FunctionDef):
+                        self.assertLessEqual(node.end_lineno - node.lineno + 1, 40, node.name)
+
+    def test_imports_are_of_the_package_from_the_file_that_defines(self):
+        trees = {path.stem: tree for path, text, tree in sources()}
+        for stem, tree in trees.items():
+            for node in imports_of(tree):
+                with self.subTest(stem, module=node.module):
+                    self.assertIn(node, tree.body)
+                    self.assertEqual(node.level, 0)
+                    package, dot, module = node.module.partition(".")
+                    self.assertEqual(package, "nevernought")
+                    for alias in node.names:
+                        self.assertIn(alias.name, defined_in(trees[module]))
+
+    def test_no_ring_of_imports(self):
+        leaning = {path.stem: [node.module.partition(".")[2] for node in imports_of(tree)]
+                   for path, text, tree in sources()}
+        while leaning:
+            free = [stem for stem, needed in leaning.items() if not any(other in leaning for other in needed)]
+            self.assertTrue(free, leaning)
+            for stem in free:
+                del leaning[stem]
+
+    def test_names(self):
+        for path, text, tree in sources():
+            names = bound_at_top(tree)
+            self.assertEqual(len(names), len(set(names)), path.name)
+            for node in ast.walk(tree):
+                name = getattr(node, "id", None) or getattr(node, "attr", None) or getattr(node, "arg", None)
+                if isinstance(name, str) and name.startswith("_"):
+                    self.assertRegex(name, DOUBLE_UNDERSCORES)
+                if isinstance(node, ast.FunctionDef) and node.name.startswith("_"):
+                    self.assertRegex(node.name, DOUBLE_UNDERSCORES)
+
+    def test_no_local_name_hides_an_import_a_class_or_a_builtin(self):
+        for path, text, tree in sources():
+            barred = set(dir(builtins))
+            barred.update(alias.name for node in imports_of(tree) for alias in node.names)
+            barred.update(node.name for node in tree.body if isinstance(node, ast.ClassDef))
+            for node in ast.walk(tree):
+                if isinstance(node, ast.FunctionDef):
+                    self.assertEqual(local_names(node) & barred, set(), (path.name, node.name))
+
+    def test_builtins_and_methods(self):
+        own = {node.name for path, text, tree in sources() for node in ast.walk(tree)
+               if isinstance(node, ast.FunctionDef)}
+        for path, text, tree in sources():
+            for node in ast.walk(tree):
+                if isinstance(node, ast.Name) and node.id in dir(builtins):
+                    self.assertIn(node.id, BUILTINS, path.name)
+                if isinstance(node, ast.Call) and isinstance(node.func, ast.Attribute):
+                    self.assertIn(node.func.attr, METHODS | own, path.name)
+
+    def test_barred_words_and_forms(self):
+        for path, text, tree in sources():
+            self.assertIsNone(re.search(BARRED_WORDS, text, re.VERBOSE), path.name)
+            for node in ast.walk(tree):
+                self.assertNotIsInstance(node, BARRED_NODES, path.name)
+                if isinstance(node, ast.Constant):
+                    self.assertNotIsInstance(node.value, (float, complex), path.name)
+                    self.assertFalse(isinstance(node.value, str) and "%" in node.value, path.name)
+                if isinstance(node, ast.BinOp) and isinstance(node.op, ast.Pow):
+                    self.assertIsInstance(node.right, ast.Constant, path.name)
+                if isinstance(node, ast.Call) and getattr(node.func, "id", "") in ("any", "all", "min", "max", "sum"):
+                    self.assertFalse([a for a in node.args if isinstance(a, ast.GeneratorExp)], path.name)
+
+
+if __name__ == "__main__":
+    unittest.main()
