@@ -4,8 +4,10 @@ import copy
 import inspect
 import unittest
 
-from nevernought import shares, tables
-from nevernought.errors import BadTable, Unfit
+from helping import S, X, Y, less, plus, times, undo
+from nevernought import alike, rooms, shares, sound, tables, terms, tongue, webs, worths
+from nevernought.errors import (BadNumber, BadTable, BadTables, BadTerm, BadText, BadWeb, NeverError, NoLetter, Unfit,
+                                Unsound)
 
 A = [[(1, 2), (3, 1)], [(-5, 7), (2, 3)]]
 B = [[(0, 1), (1, 1)], [(999999999999, 7), (1, 999999999999)]]
@@ -37,34 +39,100 @@ SHARE_CALLS = [
     ("read_share", {"text": "-1/3"}),
 ]
 
+TERM = plus(undo(times(X, less(Y, S(1, 2)))), Y)
+HUA, OTHER = tongue.read_term("~(~x + ~(~y - x))"), tongue.read_term("x - x*y*x")
+BAD = undo(less(times(X, Y), times(X, Y)))
+AT = {"x": A, "y": B}
+ONES = {"x": [[(2, 1)]], "y": [[(3, 1)]]}
+FLAT = {"": [[(1, 1), (1, 1)], [(2, 1), (2, 1)]], "x": [[(0, 1), (0, 1)], [(5, 7), (5, 7)]]}
+FULL = {"": [[(1, 1), (0, 1)], [(0, 1), (0, 1)]], "x": [[(0, 1), (1, 1)], [(1, 1), (0, 1)]]}
+SKEW = webs.web(tongue.read_term("x*y - y*x"))
+ROOM = [[(1, 1), (-1, 1)]]
+# Each call of the other modules, likewise.
+OTHER_CALLS = [
+    (terms, "flaw_of", {"term": TERM}),
+    (terms, "parts", {"term": TERM}),
+    (terms, "part", {"term": TERM, "place": 2}),
+    (terms, "letters", {"term": TERM}),
+    (terms, "undoings", {"term": TERM}),
+    (tongue, "term_text", {"term": TERM}),
+    (tongue, "read_term", {"text": "~(x + 1)*y - (-1/2)*~~x"}),
+    (worths, "worth", {"term": TERM, "tables": AT}),
+    (worths, "worth", {"term": X, "tables": AT}),
+    (worths, "worth", {"term": undo(X), "tables": {"x": SINGULAR}}),
+    (webs, "web", {"term": TERM}),
+    (webs, "web", {"term": S(1)}),
+    (webs, "laid", {"squares": webs.web(TERM), "tables": AT}),
+    (webs, "laid", {"squares": webs.web(X), "tables": AT}),
+    (rooms, "makes", {"squares": FLAT, "rows": ROOM}),
+    (rooms, "makes", {"squares": FULL, "rows": ROOM}),
+    (rooms, "is_room", {"squares": FLAT, "rows": ROOM}),
+    (rooms, "is_room", {"squares": FULL, "rows": ROOM}),
+    (rooms, "lesser_room", {"squares": FLAT}),
+    (rooms, "lesser_room", {"squares": FULL}),
+    (rooms, "web_rank", {"squares": FLAT}),
+    (rooms, "web_rank", {"squares": FULL}),
+    (rooms, "web_rank", {"squares": SKEW}),
+    (sound, "sound", {"term": TERM}),
+    (sound, "sound", {"term": BAD}),
+    (sound, "sound_holds", {"term": TERM, "paper": ("sound", AT)}),
+    (sound, "sound_holds", {"term": undo(S(0)), "paper": ("unsound", 0, [[(1, 1)]])}),
+    (alike, "nought", {"term": TERM}),
+    (alike, "nought", {"term": BAD[1]}),
+    (alike, "alike", {"one": HUA, "other": OTHER}),
+    (alike, "alike", {"one": OTHER, "other": TERM}),
+    (alike, "nought_holds", {"term": TERM, "paper": ("else", AT)}),
+    (alike, "nought_holds", {"term": S(0), "paper": ("nought", [[(1, 1)]])}),
+    (alike, "alike_holds", {"one": X, "other": Y, "paper": ("unlike", ONES)}),
+    (alike, "alike_holds", {"one": X, "other": X, "paper": ("alike", [[(1, 1)]])}),
+    (alike, "commute", {"one": HUA, "other": OTHER}),
+    (alike, "commute", {"one": TERM, "other": OTHER}),
+]
+
 
 def as_tuples(thing):
-    if isinstance(thing, list):
+    """The same with tuples in place of all lists."""
+    if isinstance(thing, dict):
+        return {key: as_tuples(thing[key]) for key in thing}
+    if isinstance(thing, (list, tuple)):
         return tuple(as_tuples(part) for part in thing)
     return thing
 
 
+def within(thing):
+    """What stands right in a list, a tuple or a dict; nothing in others."""
+    if isinstance(thing, dict):
+        return [*thing, *thing.values()]
+    return list(thing) if isinstance(thing, (list, tuple)) else []
+
+
 def lists_in(thing):
-    """The identities of all lists within a thing."""
-    if not isinstance(thing, (list, tuple)):
-        return []
-    found = [id(thing)] if isinstance(thing, list) else []
-    for part in thing:
+    """The identities of all lists and dicts within a thing."""
+    found = [id(thing)] if isinstance(thing, (list, dict)) else []
+    for part in within(thing):
         found += lists_in(part)
     return found
 
 
+def emptied(thing):
+    """Empties all lists and dicts within a thing."""
+    for part in within(thing):
+        emptied(part)
+    if isinstance(thing, (list, dict)):
+        thing.clear()
+
+
 def kinds_in(thing):
     """The kinds of a thing and of all within it."""
-    if isinstance(thing, (list, tuple)):
-        return (type(thing), [kinds_in(part) for part in thing])
-    return type(thing)
+    return (type(thing), [kinds_in(part) for part in within(thing)])
 
 
 def all_calls():
     for home, calls in ((shares, SHARE_CALLS), (tables, TABLE_CALLS)):
         for name, told in calls:
             yield getattr(home, name), told
+    for home, name, told in OTHER_CALLS:
+        yield getattr(home, name), told
 
 
 class Handling(unittest.TestCase):
@@ -92,21 +160,58 @@ class Handling(unittest.TestCase):
 
     def test_told_lists_may_be_changed(self):
         for work, told in all_calls():
-            answer = work(**told)
-            if isinstance(answer, list):
-                with self.subTest(work.__name__):
-                    right = copy.deepcopy(answer)
-                    for row in answer:
-                        row.clear()
-                    answer.clear()
-                    self.assertEqual(work(**told), right)
+            with self.subTest(work.__name__):
+                answer = work(**told)
+                right = copy.deepcopy(answer)
+                emptied(answer)
+                self.assertEqual(work(**told), right)
+
+    def test_handed_in_may_be_changed_later(self):
+        for work, told in all_calls():
+            with self.subTest(work.__name__):
+                handed = copy.deepcopy(told)
+                answer = work(**handed)
+                right = copy.deepcopy(answer)
+                emptied(handed)
+                self.assertEqual(answer, right)
+
+    def check_rows(self, rows, width):
+        share = kinds_in((1, 1))
+        self.assertEqual(kinds_in(rows), (list, [(list, [share] * width)] * len(rows)))
+
+    def check_tables(self, told):
+        self.assertIsInstance(told, dict)
+        for rows in told.values():
+            self.check_rows(rows, len(rows))
 
     def test_tables_are_lists_of_lists_of_tuples(self):
-        for work, told in all_calls():
-            answer = work(**told)
+        for name, told in TABLE_CALLS:
+            answer = getattr(tables, name)(**told)
             if isinstance(answer, list):
-                size = len(answer)
-                self.assertEqual(kinds_in(answer), (list, [(list, [(tuple, [int, int])] * size)] * size))
+                self.check_rows(answer, len(answer))
+
+    def test_kinds_of_what_is_told(self):
+        self.check_rows(worths.worth(TERM, AT), 2)
+        self.check_tables(webs.web(TERM))
+        self.check_rows(webs.laid(webs.web(X), AT), 2)
+        self.check_rows(rooms.lesser_room(FLAT), 2)
+        for squares in (FLAT, FULL, SKEW):
+            rank, rows, told = rooms.web_rank(squares)
+            self.assertIs(type(rank), int)
+            self.check_rows(rows, len(squares[""]))
+            self.check_tables(told)
+        self.check_tables(sound.sound(TERM)[1])
+        self.check_rows(sound.sound(BAD)[2], 3)
+        self.check_tables(alike.nought(TERM)[1])
+        self.check_rows(alike.nought(BAD[1])[1], 3)
+        self.check_rows(alike.alike(HUA, OTHER)[1], 7)
+        self.check_tables(alike.alike(TERM, OTHER)[1])
+        for work, told in all_calls():
+            if work.__name__.startswith("is_") or work.__name__.endswith("_holds") or work.__name__ == "commute":
+                self.assertIs(type(work(**told)), bool)
+        self.assertEqual(kinds_in(tongue.read_term("x + 1/2")), kinds_in(plus(X, S(1, 2))))
+        self.assertIs(type(terms.letters(TERM)), list)
+        self.assertIs(type(terms.undoings(TERM)), list)
 
     def test_tuples_in_place_of_lists(self):
         for work, told in all_calls():
@@ -133,6 +238,32 @@ class Handling(unittest.TestCase):
     def test_asked_again_the_same_is_told(self):
         for work, told in all_calls():
             self.assertEqual(work(**told), work(**copy.deepcopy(told)))
+
+    def test_the_order_of_dicts_is_no_matter(self):
+        for work, told in all_calls():
+            turned = {name: dict(reversed(list(value.items()))) if isinstance(value, dict) else value
+                      for name, value in told.items()}
+            self.assertEqual(work(**turned), work(**told))
+
+    def test_refused_dicts_stay_as_they_were(self):
+        unlike = {"x": A, "y": C}
+        bent = {"": A, "x": C}
+        for refusal, work, handed in (
+                (BadTables, worths.worth, (X, unlike)), (NoLetter, worths.worth, (X, {"y": A})),
+                (BadTables, webs.laid, (SKEW, unlike)), (NoLetter, webs.laid, (SKEW, {"y": A})),
+                (BadWeb, rooms.makes, (bent, ROOM)), (BadWeb, rooms.is_room, (bent, ROOM)),
+                (BadWeb, rooms.lesser_room, (bent,)), (BadWeb, rooms.web_rank, (bent,)),
+                (BadTerm, sound.sound_holds, ([X], ("sound", unlike))), (BadTerm, alike.alike, ([X], X)),
+                (Unsound, alike.nought_holds, (BAD, ("else", unlike))), (BadNumber, terms.part, (X, 1)),
+                (BadText, tongue.read_term, ("x y",))):
+            before = copy.deepcopy(handed)
+            for _ in range(2):
+                with self.assertRaises(refusal) as caught:
+                    work(*handed)
+                self.assertEqual(caught.exception.word, refusal.__name__)
+                self.assertIsInstance(caught.exception, (NeverError, LookupError))
+            self.assertEqual(handed, before)
+            self.assertEqual(kinds_in(handed), kinds_in(before))
 
 
 class HandedOn(unittest.TestCase):
@@ -163,6 +294,26 @@ class HandedOn(unittest.TestCase):
         self.assertEqual(tables.rank(tables.corners(one, SINGULAR)), 3)
         self.assertEqual(tables.taken(tables.added(one, A), A), one)
         self.assertEqual(tables.scaled(tables.scaled(one, one[0][0]), shares.over((1, 1), one[0][0])), one)
+
+    def test_worths_and_webs(self):
+        great = worths.worth(tongue.read_term("~(x + 1/7)*x*y*~(y - 3)*x*y"), AT)
+        self.assertGreater(great[0][0][1], 10 ** 20)
+        again = worths.worth(TERM, {"x": great, "y": B})
+        self.assertGreater(again[0][0][1], 10 ** 40)
+        squares = {"": great, "x": again}
+        self.assertEqual(rooms.web_rank(squares)[0], 2)
+        flat = {letter: [squares[letter][0]] * 2 for letter in squares}
+        self.assertEqual(rooms.web_rank(flat)[0], 1)
+        self.assertTrue(rooms.is_room(flat, rooms.lesser_room(flat)))
+        self.assertEqual(len(webs.laid(squares, {"x": great})), 4)
+        self.assertTrue(sound.sound_holds(TERM, ("sound", {"x": great, "y": again})))
+
+    def test_tables_of_papers(self):
+        paper = alike.alike(times(X, Y), times(Y, X))
+        for made in (sound.sound(TERM)[1], paper[1], rooms.web_rank(SKEW)[2]):
+            told = worths.worth(less(times(X, Y), times(Y, X)), made)
+            self.assertEqual(len(told), len(made["x"]))
+            self.assertEqual(tables.rank(webs.laid(webs.web(TERM), made)), 3 * len(told))
 
     def test_sizes(self):
         one = A

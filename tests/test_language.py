@@ -133,6 +133,47 @@ class Language(unittest.TestCase):
                 if isinstance(node, ast.Call) and isinstance(node.func, ast.Attribute):
                     self.assertIn(node.func.attr, METHODS | own, path.name)
 
+    def test_no_name_is_a_method_here_and_an_attribute_there(self):
+        methods, attributes = set(), set()
+        for path, text, tree in sources():
+            for node in ast.walk(tree):
+                if isinstance(node, ast.ClassDef):
+                    methods.update(inner.name for inner in node.body if isinstance(inner, ast.FunctionDef))
+                if isinstance(node, ast.Attribute) and isinstance(node.ctx, ast.Store):
+                    attributes.add(node.attr)
+        self.assertEqual(methods & attributes, set())
+        for path, text, tree in sources():
+            for node in ast.walk(tree):
+                if isinstance(node, ast.Attribute):
+                    self.assertIn(node.attr, methods | attributes | METHODS, path.name)
+
+    def test_is_stands_with_none_true_and_false_only(self):
+        for path, text, tree in sources():
+            for node in ast.walk(tree):
+                if isinstance(node, ast.Compare):
+                    for sign, other in zip(node.ops, node.comparators):
+                        if isinstance(sign, (ast.Is, ast.IsNot)):
+                            self.assertIsInstance(other, ast.Constant, path.name)
+                            self.assertIn(other.value, (None, True, False), path.name)
+
+    def test_zips_and_ranges_are_iterated_at_once(self):
+        takers = {"list", "tuple", "dict", "sorted", "sum", "any", "all", "enumerate", "zip", "min", "max", "reversed"}
+        for path, text, tree in sources():
+            right = set()
+            for node in ast.walk(tree):
+                if isinstance(node, (ast.For, ast.comprehension)):
+                    right.add(id(node.iter))
+                if isinstance(node, ast.Call) and getattr(node.func, "id", "") in takers and node.args:
+                    right.add(id(node.args[0]))
+            for node in ast.walk(tree):
+                if isinstance(node, ast.Call) and getattr(node.func, "id", "") in ("zip", "enumerate", "reversed", "range"):
+                    self.assertTrue(id(node) in right or self.is_joined(tree, node), (path.name, node.lineno))
+
+    def is_joined(self, tree, node):
+        """Whether a call stands in the join of a literal."""
+        return any(isinstance(other, ast.Call) and getattr(other.func, "attr", "") == "join" and node in other.args
+                   for other in ast.walk(tree))
+
     def test_barred_words_and_forms(self):
         for path, text, tree in sources():
             self.assertIsNone(re.search(BARRED_WORDS, text, re.VERBOSE), path.name)
