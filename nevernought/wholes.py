@@ -48,9 +48,11 @@ def whole_sum(one, other, sign):
 
 def whole_product(one, other):
     """The product of two pairs in this order."""
-    columns = list(zip(*other[0]))
-    rows = [[sum([a * b for a, b in zip(row, column)]) for column in columns] for row in one[0]]
-    return lowered(rows, one[1] * other[1])
+    rows, bottom = one
+    beside, below = other
+    columns = list(zip(*beside))
+    told = [[sum([a * b for a, b in zip(row, column)]) for column in columns] for row in rows]
+    return lowered(told, bottom * below)
 
 
 def whole_back(one):

@@ -64,6 +64,37 @@ def local_names(function):
     return names
 
 
+def is_plain(node):
+    """Whether this is a name, an attribute off a name, a literal, or a list, tuple or dict of these."""
+    if isinstance(node, (ast.List, ast.Tuple)):
+        return all(is_plain(part) for part in node.elts)
+    if isinstance(node, ast.Dict):
+        return all(part is not None and is_plain(part) for part in [*node.keys, *node.values])
+    if isinstance(node, ast.UnaryOp) and isinstance(node.op, ast.USub):
+        return isinstance(node.operand, ast.Constant)
+    return isinstance(node, (ast.Name, ast.Constant)) or is_off_a_name(node)
+
+
+def is_off_a_name(node):
+    return isinstance(node, ast.Attribute) and isinstance(node.value, ast.Name)
+
+
+def wrong_stars(tree):
+    """The rows of all calls with a star, one or two, that has what L7 doesn't let stand behind or beside it."""
+    rows = []
+    for node in ast.walk(tree):
+        if isinstance(node, ast.Call):
+            behind = [part.value for part in node.args if isinstance(part, ast.Starred)]
+            doubled = [part.value for part in node.keywords if part.arg is None]
+            beside = [part for part in node.args if not isinstance(part, ast.Starred)] if doubled else []
+            named = [part for part in node.keywords if part.arg is not None]
+            right = all(is_plain(part) for part in behind + beside)
+            right = right and all(isinstance(part, ast.Name) or is_off_a_name(part) for part in doubled)
+            if not right or len(doubled) > 1 or (doubled and named):
+                rows.append(node.lineno)
+    return rows
+
+
 class Language(unittest.TestCase):
     def test_files(self):
         self.assertTrue((PACKAGE / "__init__.py").is_file())
@@ -168,6 +199,20 @@ class Language(unittest.TestCase):
             for node in ast.walk(tree):
                 if isinstance(node, ast.Call) and getattr(node.func, "id", "") in ("zip", "enumerate", "reversed", "range"):
                     self.assertTrue(id(node) in right or self.is_joined(tree, node), (path.name, node.lineno))
+
+    def test_what_stands_behind_the_star_of_a_call(self):
+        for path, text, tree in sources():
+            self.assertEqual(wrong_stars(tree), [], path.name)
+
+    def test_wrong_stars_are_found(self):
+        for text in ("zip(*other[0])", "zip(*other[1:])", "f(*made(xs))", "f(k, *xs.items())", "f(*[g(x)])", "f(*xs + ys)",
+                     "f(*[x for x in xs])", "f(*a.b.c)", "f(*(xs[0], 1))", "list(zip(*rows[k]))", "f(*(xs or ys))",
+                     "f(**made())", "f(**d[0])", "f(**{'a': 1})", "f(g(x), **d)", "f(**d, **e)", "f(a=1, **d)",
+                     "f(*xs, *ys[0])", "f(xs[0], **d)", "g(f(*xs[::2]))"):
+            self.assertEqual(wrong_stars(ast.parse("pass\n" + text)), [2], text)
+        for text in ("zip(*other)", "f(k, *xs)", "f(*box.rows)", "f(*[xs, 1])", "f(*(a, -1))", "f(*'ab')", "f(**d)",
+                     "f(k, **box.more)", "f(*xs, n, sep=n)", "[*xs[0], 1]", "f(xs[0], g(x), *ys)", "a, *b = xs[0]"):
+            self.assertEqual(wrong_stars(ast.parse(text)), [], text)
 
     def is_joined(self, tree, node):
         """Whether a call stands in the join of a literal."""
