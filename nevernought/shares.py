@@ -6,10 +6,34 @@ MOST_FIGURES = 12
 FIGURES = "0123456789"
 PIECE_LENGTH = 60
 PIECE = 10 ** 60
+# Numbers of more bits than this are divided by way of their first bits, so many of them.
+LONG = 6000
+SHORT = 120
+
+
+def nearer(one, other):
+    """Two shorter numbers that have the same common divisor; handed in is the greater one first, none below nought."""
+    # Of the steps of divisions with a rest many are told by the first figures alone (Lehmer).
+    shift = one.bit_length() - SHORT
+    ahead, behind = one >> shift, other >> shift
+    a, b, c, d = 1, 0, 0, 1
+    while behind + c != 0 and behind + d != 0:
+        times_in = (ahead + a) // (behind + c)
+        if times_in != (ahead + b) // (behind + d):
+            break
+        a, b, c, d = c, d, a - times_in * c, b - times_in * d
+        ahead, behind = behind, ahead - times_in * behind
+    if b == 0:
+        return other, one % other
+    return a * one + b * other, c * one + d * other
 
 
 def common_divisor(one, other):
     """The greatest common divisor, not below nought."""
+    if other.bit_length() > LONG:
+        one, other = max(abs(one), abs(other)), min(abs(one), abs(other))
+        while other.bit_length() > LONG:
+            one, other = nearer(one, other)
     while other != 0:
         one, other = other, one % other
     return abs(one)

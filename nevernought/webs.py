@@ -93,15 +93,19 @@ def blank(size):
     return [[NOUGHT] * size for row in range(size)]
 
 
-def web_of(term):
-    """The web of what is built as a reckoning."""
-    strands = strands_of(term)
-    size = strands.many + 1
-    squares = {letter: blank(size) for letter in [FIXED] + letters_of(term)}
-    for row, column, letter, much in strands.whole():
+def web_from(spots, size, found):
+    """The web of a size that has these (row, column, letter, share), all letters being among those found."""
+    squares = {letter: blank(size) for letter in [FIXED] + found}
+    for row, column, letter, much in spots:
         square = squares[letter]
         square[row][column] = plus(square[row][column], much)
     return {letter: squares[letter] for letter in squares if letter == FIXED or squares[letter] != blank(size)}
+
+
+def web_of(term):
+    """The web of what is built as a reckoning."""
+    strands = strands_of(term)
+    return web_from(strands.whole(), strands.many + 1, letters_of(term))
 
 
 def web(term):

@@ -18,11 +18,17 @@ def lowered(rows, bottom):
     return ([[number // divisor for number in row] for row in rows], bottom // divisor)
 
 
+def whole_line(row):
+    """A row of shares as a pair (row of whole numbers, one bottom)."""
+    flat = whole_row([*row, (1, 1)])
+    return (flat[:-1], flat[-1])
+
+
 def whole_of(table):
     """The pair of a table of shares."""
     size = len(table)
-    flat = whole_row([one for row in table for one in row] + [(1, 1)])
-    return ([flat[row * size:(row + 1) * size] for row in range(size)], flat[-1])
+    flat, bottom = whole_line([one for row in table for one in row])
+    return ([flat[row * size:(row + 1) * size] for row in range(size)], bottom)
 
 
 def table_of(whole):

@@ -1,6 +1,7 @@
 """What several tests need: reckonings at hand, and plain ways to work them out that share nothing with the program."""
 
 from fractions import Fraction
+from itertools import product
 from math import gcd
 
 PRIME = 1000000007
@@ -209,3 +210,53 @@ def plain_laid(squares, tables, size):
             for j in range(many * size):
                 told[i][j] += Fraction(*square[i // size][j // size]) * table[i % size][j % size]
     return told
+
+
+def words_of(names, most):
+    """All words of at most so many letters, in the order of words."""
+    for many in range(most + 1):
+        yield from product(sorted(names), repeat=many)
+
+
+def plain_weight(begin, steps, end, word):
+    """The weight of a word, in fractions, by the begin, the tables of its letters and the end."""
+    row = [Fraction(*one) for one in begin]
+    for letter in word:
+        if letter not in steps:
+            return Fraction(0)
+        row = [sum((a * Fraction(*b[k]) for a, b in zip(row, steps[letter])), Fraction(0)) for k in range(len(row))]
+    return sum((a * Fraction(*b) for a, b in zip(row, end)), Fraction(0))
+
+
+def plain_least(weight, names, most):
+    """Letters, begin, steps and end of the least machine, of at most so many rooms, of what weighs words so.
+
+    Rows are looked at as far as words of so many letters behind.
+    """
+    behind = list(words_of(names, most))
+    row_of = {}
+
+    def row(word):
+        if word not in row_of:
+            row_of[word] = [weight(word + more) for more in behind]
+        return row_of[word]
+
+    def made_up(word, others):
+        """The fractions of the others' rows that make up the row, or None."""
+        columns = [[*column] for column in zip(*[row(other) for other in others], row(word))]
+        rows, leads = plain_sweep(columns, len(others) + 1)
+        if len(others) in leads:
+            return None
+        told = [Fraction(0)] * len(others)
+        for at, lead in enumerate(leads):
+            told[lead] = rows[at][-1]
+        return told
+
+    rooms = []
+    for word in words_of(names, most):
+        if made_up(word, rooms) is None:
+            rooms.append(word)
+    steps = {letter: [made_up(word + (letter,), rooms) for word in rooms] for letter in sorted(names)}
+    steps = {letter: pairs(steps[letter]) for letter in steps if any(one for line in steps[letter] for one in line)}
+    begin = [(int(at == 0), 1) for at in range(len(rooms))]
+    return sorted(steps), begin, steps, [(weight(word).numerator, weight(word).denominator) for word in rooms]

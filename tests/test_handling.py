@@ -5,9 +5,9 @@ import inspect
 import unittest
 
 from helping import S, X, Y, less, plus, times, undo
-from nevernought import alike, rooms, shares, sound, tables, terms, tongue, webs, worths
-from nevernought.errors import (BadNumber, BadTable, BadTables, BadTerm, BadText, BadWeb, NeverError, NoLetter, Unfit,
-                                Unsound)
+from nevernought import alike, changes, rooms, shares, sound, squares, tables, terms, tongue, webs, worths
+from nevernought.errors import (BadNumber, BadSquare, BadTable, BadTables, BadTerm, BadText, BadWeb, NeverError, NoLetter,
+                                Unfit, Unsound)
 
 A = [[(1, 2), (3, 1)], [(-5, 7), (2, 3)]]
 B = [[(0, 1), (1, 1)], [(999999999999, 7), (1, 999999999999)]]
@@ -87,6 +87,14 @@ OTHER_CALLS = [
     (alike, "alike_holds", {"one": X, "other": X, "paper": ("alike", [[(1, 1)]])}),
     (alike, "commute", {"one": HUA, "other": OTHER}),
     (alike, "commute", {"one": TERM, "other": OTHER}),
+    (squares, "rank_of", {"rows": [[X, Y], [times(Y, X), S(1, 2)]]}),
+    (squares, "rank_of", {"rows": [[X, undo(Y)], [times(Y, X), times(Y, undo(Y))]]}),
+    (squares, "rank_of", {"rows": [[S(0)]]}),
+    (squares, "square_web", {"rows": [[X, undo(Y)], [times(Y, X), S(1, 2)]]}),
+    (changes, "put", {"term": TERM, "by": {"x": Y, "y": times(X, Y), "z": S(1)}}),
+    (changes, "put", {"term": TERM, "by": {}}),
+    (changes, "nudged", {"term": times(undo(Y), X), "letter": "y"}),
+    (changes, "turned", {"term": TERM}),
 ]
 
 
@@ -195,10 +203,10 @@ class Handling(unittest.TestCase):
         self.check_tables(webs.web(TERM))
         self.check_rows(webs.laid(webs.web(X), AT), 2)
         self.check_rows(rooms.lesser_room(FLAT), 2)
-        for squares in (FLAT, FULL, SKEW):
-            rank, rows, told = rooms.web_rank(squares)
+        for some in (FLAT, FULL, SKEW):
+            rank, rows, told = rooms.web_rank(some)
             self.assertIs(type(rank), int)
-            self.check_rows(rows, len(squares[""]))
+            self.check_rows(rows, len(some[""]))
             self.check_tables(told)
         self.check_tables(sound.sound(TERM)[1])
         self.check_rows(sound.sound(BAD)[2], 3)
@@ -206,6 +214,11 @@ class Handling(unittest.TestCase):
         self.check_rows(alike.nought(BAD[1])[1], 3)
         self.check_rows(alike.alike(HUA, OTHER)[1], 7)
         self.check_tables(alike.alike(TERM, OTHER)[1])
+        self.check_tables(squares.square_web([[X, undo(Y)], [times(Y, X), S(1, 2)]]))
+        rank, rows, told = squares.rank_of([[X, undo(Y)], [times(Y, X), times(Y, undo(Y))]])
+        self.assertEqual((type(rank), rank), (int, 1))
+        self.check_rows(rows, 6)
+        self.check_tables(told)
         for work, told in all_calls():
             if work.__name__.startswith("is_") or work.__name__.endswith("_holds") or work.__name__ == "commute":
                 self.assertIs(type(work(**told)), bool)
@@ -229,11 +242,19 @@ class Handling(unittest.TestCase):
                 self.assertEqual(work(**told), answer)
                 self.assertEqual(work(**{name: told[name] for name in reversed(names)}), answer)
                 self.assertEqual(work(told[names[0]], **{name: told[name] for name in names[1:]}), answer)
-                self.assertEqual(list(inspect.signature(work).parameters), names)
+                told_names = inspect.signature(work).parameters
+                self.assertEqual([name for name in told_names if told_names[name].kind == inspect.Parameter.POSITIONAL_OR_KEYWORD],
+                                 names)
 
     def test_what_has_a_default_may_be_left_out(self):
         self.assertEqual(shares.share(top=4), (4, 1))
         self.assertEqual(inspect.signature(shares.share).parameters["bottom"].default, 1)
+        self.assertEqual(changes.nudged(X, "x"), S(1))
+        self.assertEqual(inspect.signature(changes.nudged).parameters["by"].default, S(1))
+
+    def test_what_stands_behind_a_star_is_handed_in_by_its_name(self):
+        self.assertEqual(changes.nudged(by=Y, letter="x", term=X), Y)
+        self.assertRaises(TypeError, changes.nudged, X, "x", Y)
 
     def test_asked_again_the_same_is_told(self):
         for work, told in all_calls():
@@ -255,7 +276,11 @@ class Handling(unittest.TestCase):
                 (BadWeb, rooms.lesser_room, (bent,)), (BadWeb, rooms.web_rank, (bent,)),
                 (BadTerm, sound.sound_holds, ([X], ("sound", unlike))), (BadTerm, alike.alike, ([X], X)),
                 (Unsound, alike.nought_holds, (BAD, ("else", unlike))), (BadNumber, terms.part, (X, 1)),
-                (BadText, tongue.read_term, ("x y",))):
+                (BadText, tongue.read_term, ("x y",)), (BadSquare, squares.rank_of, ([[X, Y], [X]],)),
+                (BadSquare, squares.square_web, ([[X], [X]],)), (BadTerm, squares.rank_of, ([[X, [X]]],)),
+                (Unsound, squares.rank_of, ([[X, BAD], [X, Y]],)), (BadTerm, changes.put, (X, {"y": [X], "x": X})),
+                (BadTerm, changes.put, (BAD, {"x": BAD, "y": BAD})), (BadTerm, changes.nudged, ([X], "x")),
+                (BadTerm, changes.turned, ([X],))):
             before = copy.deepcopy(handed)
             for _ in range(2):
                 with self.assertRaises(refusal) as caught:

@@ -22,6 +22,8 @@ BARRED_WORDS = r"""\b(type|typing|typing_extensions|enum|Enum|IntEnum|StrEnum|Fl
 BARRED_NODES = (ast.Global, ast.AsyncFunctionDef, ast.AsyncFor, ast.AsyncWith, ast.Await, ast.Div, ast.Import,
                 ast.MatchClass, ast.MatchMapping)
 DOUBLE_UNDERSCORES = r"__[a-z]+__"
+METHODS_OF_CLASSES = {"__init__", "__eq__", "__repr__", "__len__"}
+PYTHON_S_OWN_ERRORS = {"KeyError", "ZeroDivisionError"}
 
 
 def sources():
@@ -93,6 +95,23 @@ def wrong_stars(tree):
             if not right or len(doubled) > 1 or (doubled and named):
                 rows.append(node.lineno)
     return rows
+
+
+def name_of(node):
+    """The name of what is called, or nothing."""
+    return getattr(node.func, "id", "") if isinstance(node, ast.Call) else ""
+
+
+def wrong_sets(tree):
+    """The rows of all sets that stand where L24 lets none stand; none is stored here."""
+    right = set()
+    for node in ast.walk(tree):
+        if name_of(node) in ("sorted", "len"):
+            right.update(id(part) for part in node.args[:1])
+        if isinstance(node, ast.Compare) and isinstance(node.ops[0], (ast.In, ast.NotIn)):
+            right.update(id(part) for part in node.comparators)
+    return [node.lineno for node in ast.walk(tree)
+            if (isinstance(node, (ast.Set, ast.SetComp)) or name_of(node) in ("set", "frozenset")) and id(node) not in right]
 
 
 class Language(unittest.TestCase):
@@ -200,6 +219,56 @@ class Language(unittest.TestCase):
                 if isinstance(node, ast.Call) and getattr(node.func, "id", "") in ("zip", "enumerate", "reversed", "range"):
                     self.assertTrue(id(node) in right or self.is_joined(tree, node), (path.name, node.lineno))
 
+    def test_sets_are_sorted_counted_or_looked_into_at_once(self):
+        for path, text, tree in sources():
+            self.assertEqual(wrong_sets(tree), [], path.name)
+        for text in ("for x in set(xs): pass", "a = {1}", "f({x for x in xs})", "list(set(xs))", "sum({x for x in xs})"):
+            self.assertEqual(wrong_sets(ast.parse(text)), [1], text)
+
+    def test_no_star_in_a_set_or_an_index(self):
+        for path, text, tree in sources():
+            for node in ast.walk(tree):
+                if isinstance(node, ast.Set):
+                    self.assertFalse([part for part in node.elts if isinstance(part, ast.Starred)], path.name)
+                if isinstance(node, ast.Subscript):
+                    self.assertFalse([part for part in ast.walk(node.slice) if isinstance(part, ast.Starred)], path.name)
+
+    def test_errors_are_made_where_they_are_raised_and_caught_by_name(self):
+        own = {node.name for path, text, tree in sources() if path.name == "errors.py" for node in tree.body
+               if isinstance(node, ast.ClassDef)}
+        for path, text, tree in sources():
+            for node in ast.walk(tree):
+                if isinstance(node, ast.Raise) and node.exc is not None:
+                    self.assertIn(name_of(node.exc), own, path.name)
+                if isinstance(node, ast.ExceptHandler):
+                    caught = node.type.elts if isinstance(node.type, ast.Tuple) else [node.type]
+                    self.assertTrue({part.id for part in caught} <= own | PYTHON_S_OWN_ERRORS, path.name)
+
+    def test_double_underscores(self):
+        for path, text, tree in sources():
+            methods = [node for part in tree.body if isinstance(part, ast.ClassDef) for node in part.body
+                       if isinstance(node, ast.FunctionDef) and node.name.startswith("__")]
+            for node in methods:
+                self.assertIn(node.name, METHODS_OF_CLASSES, path.name)
+                if node.name == "__init__":
+                    continue
+                self.assertIsInstance(node.body[-1], ast.Return, path.name)
+                self.assertEqual(len(node.body), 1, path.name)
+                if node.name == "__len__":
+                    self.assertEqual(name_of(node.body[-1].value), "len", path.name)
+                if node.name == "__repr__":
+                    self.assertIsInstance(node.body[-1].value, ast.JoinedStr, path.name)
+
+    def test_no_decorators_and_no_state_at_the_top(self):
+        for path, text, tree in sources():
+            for node in ast.walk(tree):
+                if isinstance(node, (ast.FunctionDef, ast.ClassDef)):
+                    self.assertEqual(node.decorator_list, [], path.name)
+            for node in tree.body:
+                if isinstance(node, ast.Assign) and isinstance(node.value, (ast.List, ast.Dict)):
+                    within = [part for part in ast.walk(node.value) if isinstance(part, (ast.List, ast.Dict))]
+                    self.assertEqual(len(within), 1, path.name)
+
     def test_what_stands_behind_the_star_of_a_call(self):
         for path, text, tree in sources():
             self.assertEqual(wrong_stars(tree), [], path.name)
@@ -229,7 +298,8 @@ class Language(unittest.TestCase):
                     self.assertFalse(isinstance(node.value, str) and "%" in node.value, path.name)
                 if isinstance(node, ast.BinOp) and isinstance(node.op, ast.Pow):
                     self.assertIsInstance(node.right, ast.Constant, path.name)
-                if isinstance(node, ast.Call) and getattr(node.func, "id", "") in ("any", "all", "min", "max", "sum"):
+                if isinstance(node, ast.Call) and getattr(node.func, "id", "") in ("any", "all", "min", "max", "sum",
+                                                                                       "sorted"):
                     self.assertFalse([a for a in node.args if isinstance(a, ast.GeneratorExp)], path.name)
 
 
