@@ -142,3 +142,28 @@ def least_weighed(scales):
         if met(row, scales.last[0]) != 0:
             return word
     return None
+
+
+def words_weighed(scales, most):
+    """All words of at most so many letters that don't weigh nought, in their order, with their weights."""
+    told = []
+    waiting = [((), scales.first)]
+    for long in range(most + 1):
+        pairs = [(word, scales.weighed(line)) for word, line in waiting]
+        told += [(word, weight) for word, weight in pairs if weight != NOUGHT]
+        longer = [(word + (letter,), scales.onward(line, letter)) for word, line in waiting for letter in scales.order]
+        waiting = [(word, line) for word, line in longer if any(line[0])]
+    return told
+
+
+def comes_to_an_end(scales):
+    """Whether the least machine's scales weigh only so many words other than nought."""
+    # Then longer and longer words lead to fewer and fewer independent rows, and at last to none.
+    rows = [scales.first[0]]
+    for room in range(len(scales.last[0])):
+        span = Span()
+        for row in rows:
+            for letter in scales.order:
+                span.take(led(row, scales.tables[letter][0]))
+        rows = span.rows
+    return len(scales.last[0]) == 0 or not rows

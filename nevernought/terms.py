@@ -8,6 +8,7 @@ MOST_LETTERS = 4
 MOST_DEEP = 4
 MOST_SIGNS = 6
 SMALL_LETTERS = "abcdefghijklmnopqrstuvwxyz"
+CAPITALS = "ABCDEFGHIJKLMNOPQRSTUVWXYZ"
 TOO_GREAT = 10 ** 12
 OF_TWO = ("plus", "less", "times")
 
@@ -34,6 +35,13 @@ def is_letter(thing):
     if not isinstance(thing, str) or not 1 <= len(thing) <= MOST_SIGNS:
         return False
     return all([sign in SMALL_LETTERS for sign in thing])
+
+
+def is_name(text):
+    """Whether a text is a capital letter and none to five small ones."""
+    if not 1 <= len(text) <= MOST_SIGNS or text[0] not in CAPITALS:
+        return False
+    return all([sign in SMALL_LETTERS for sign in text[1:]])
 
 
 def is_built(thing):

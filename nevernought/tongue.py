@@ -2,12 +2,12 @@
 
 from nevernought.errors import BadShare, BadText
 from nevernought.shares import FIGURES, read_share, share_text
-from nevernought.terms import MOST_SIGNS, SMALL_LETTERS, need_term
+from nevernought.terms import CAPITALS, MOST_SIGNS, SMALL_LETTERS, is_name, need_term
 
 MOST_BRACKETS = 12
 BRACKET = "("
 # How fast each kind of part holds together: what stands within faster ones needs brackets.
-HOLDS = {"(": 0, "plus": 1, "less": 1, "times": 2, "undo": 3, "share": 4, "letter": 4}
+HOLDS = {"(": 0, "plus": 1, "less": 1, "times": 2, "undo": 3, "share": 4, "letter": 4, "name": 4}
 SIGNS = {"plus": " + ", "less": " - ", "times": "*"}
 WORDS = {"+": "plus", "-": "less", "*": "times"}
 
@@ -21,7 +21,7 @@ def term_text(term):
 def written(term, first):
     """The part as written; `first` where nothing but the text's begin or a bracket stands ahead."""
     word = term[0]
-    if word == "letter":
+    if word == "letter" or word == "name":
         return term[1]
     if word == "share":
         text = share_text(term[1])
@@ -40,10 +40,11 @@ def held(term, least, first):
 
 
 class Reading:
-    """A text on its way to be a reckoning: parts that are done, signs that wait for theirs."""
+    """A text on its way to be a reckoning, or a formula with names: parts that are done, signs that wait for theirs."""
 
-    def __init__(self, text):
+    def __init__(self, text, named):
         self.text = text
+        self.named = named
         self.spot = 0
         self.done = []
         self.waiting = []
@@ -84,6 +85,8 @@ class Reading:
             return False
         if sign in SMALL_LETTERS:
             self.read_letter()
+        elif sign in CAPITALS and self.named:
+            self.read_name()
         else:
             self.read_number(fresh)
         return True
@@ -94,6 +97,15 @@ class Reading:
         if len(letter) > MOST_SIGNS:
             raise BadText(self.spot)
         self.done.append(("letter", letter))
+        self.spot = last
+
+    def read_name(self):
+        """Reads a name; BadText."""
+        last = self.run(SMALL_LETTERS, self.spot + 1)[1]
+        name = self.text[self.spot:last]
+        if not is_name(name):
+            raise BadText(self.spot)
+        self.done.append(("name", name))
         self.spot = last
 
     def read_number(self, fresh):
@@ -148,7 +160,8 @@ def built(pieces):
     """The reckoning of parts and signs, each sign behind its things."""
     terms = []
     for piece in pieces:
-        if len(piece) == 2:
+        # A sign stands alone, a part has something in it.
+        if len(piece) > 1:
             terms.append(piece)
         else:
             many = 1 if piece[0] == "undo" else 2
@@ -160,6 +173,6 @@ def built(pieces):
 
 def read_term(text):
     """The reckoning that a text tells; BadText, BadTerm."""
-    term = built(Reading(text).read())
+    term = built(Reading(text, False).read())
     need_term(term)
     return term

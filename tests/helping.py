@@ -260,3 +260,68 @@ def plain_least(weight, names, most):
     steps = {letter: pairs(steps[letter]) for letter in steps if any(one for line in steps[letter] for one in line)}
     begin = [(int(at == 0), 1) for at in range(len(rooms))]
     return sorted(steps), begin, steps, [(weight(word).numerator, weight(word).denominator) for word in rooms]
+
+
+def plain_series(term, most):
+    """The weights, in fractions, of all words of at most so many letters; None where an undoing's thing is nought there."""
+    word = term[0]
+    if word == "share":
+        return {(): Fraction(*term[1])}
+    if word == "letter":
+        return {(term[1],): Fraction(1)} if most > 0 else {}
+    things = [plain_series(thing, most) for thing in term[1:]]
+    if None in things:
+        return None
+    if word == "undo":
+        return series_back(things[0], most)
+    one, other = things
+    if word == "times":
+        told = {}
+        for ahead in one:
+            for behind in other:
+                if len(ahead) + len(behind) <= most:
+                    told[ahead + behind] = told.get(ahead + behind, 0) + one[ahead] * other[behind]
+        return told
+    sign = 1 if word == "plus" else -1
+    return {key: one.get(key, Fraction(0)) + sign * other.get(key, Fraction(0)) for key in {**one, **other}}
+
+
+def series_back(one, most):
+    """What has a product with the series that weighs the word of none by 1, and no other."""
+    if not one.get((), 0):
+        return None
+    names = sorted({letter for word in one for letter in word})
+    told = {}
+    for word in words_of(names, most):
+        total = Fraction(int(word == ()))
+        for at in range(1, len(word) + 1):
+            total -= one.get(word[:at], 0) * told[word[at:]]
+        told[word] = total / one[()]
+    return told
+
+
+def some_steady(chance, many, names, deep=4, figures=1):
+    """A reckoning of just so many parts that is mostly steady."""
+    while True:
+        told = tried_steady(chance, many, names, deep, figures)
+        if told is not None:
+            return told
+
+
+def tried_steady(chance, many, names, deep, figures):
+    if many == 1:
+        return ("letter", chance.choice(names)) if chance.random() < 0.7 else ("share", some_share(chance, figures))
+    if many == 2 or (many > 3 and chance.random() < 0.4):
+        if deep == 0:
+            return None
+        ahead = ("share", some_share(chance, figures))
+        within = ahead if many == 2 else tried_steady(chance, many - 3, names, deep - 1, figures)
+        if within is None:
+            return None
+        return undo(within if many == 2 else less(ahead, within))
+    ahead = chance.randint(1, many - 2)
+    one = tried_steady(chance, ahead, names, deep, figures)
+    other = tried_steady(chance, many - 1 - ahead, names, deep, figures)
+    if one is None or other is None:
+        return None
+    return (chance.choice(["plus", "less", "times", "times"]), one, other)

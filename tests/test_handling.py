@@ -5,9 +5,12 @@ import inspect
 import unittest
 
 from helping import S, X, Y, less, plus, times, undo
-from nevernought import alike, changes, rooms, shares, sound, squares, tables, terms, tongue, webs, worths
-from nevernought.errors import (BadNumber, BadSquare, BadTable, BadTables, BadTerm, BadText, BadWeb, NeverError, NoLetter,
-                                Unfit, Unsound)
+from nevernought import alike, changes, pages, rooms, shares, sound, squares, steady, tables, terms, tongue, webs, worths
+from nevernought.book import Book
+from nevernought.desk import Desk
+from nevernought.errors import (BadNumber, BadPage, BadSquare, BadTable, BadTables, BadTerm, BadText, BadWeb, NeverError,
+                                NoLetter, Unfit, Unsound, Unsteady)
+from nevernought.machines import Machine
 
 A = [[(1, 2), (3, 1)], [(-5, 7), (2, 3)]]
 B = [[(0, 1), (1, 1)], [(999999999999, 7), (1, 999999999999)]]
@@ -48,6 +51,10 @@ FLAT = {"": [[(1, 1), (1, 1)], [(2, 1), (2, 1)]], "x": [[(0, 1), (0, 1)], [(5, 7
 FULL = {"": [[(1, 1), (0, 1)], [(0, 1), (0, 1)]], "x": [[(0, 1), (1, 1)], [(1, 1), (0, 1)]]}
 SKEW = webs.web(tongue.read_term("x*y - y*x"))
 ROOM = [[(1, 1), (-1, 1)]]
+STEADY = tongue.read_term("~(1 - x*y)*(x + 1/2)")
+PAGE = "line A x*y\nline B y*x\nline C A - B\nclaim D unlike A B\nclaim E alike C C\n"
+BOOK = pages.read_page(PAGE)
+MACHINE = steady.machine_of(STEADY)
 # Each call of the other modules, likewise.
 OTHER_CALLS = [
     (terms, "flaw_of", {"term": TERM}),
@@ -95,6 +102,22 @@ OTHER_CALLS = [
     (changes, "put", {"term": TERM, "by": {}}),
     (changes, "nudged", {"term": times(undo(Y), X), "letter": "y"}),
     (changes, "turned", {"term": TERM}),
+    (steady, "machine_of", {"term": STEADY}),
+    (steady, "weights", {"term": STEADY}),
+    (steady, "plain", {"term": STEADY}),
+    (steady, "plain", {"term": times(X, plus(X, Y))}),
+    (pages, "page", {"book": BOOK}),
+    (pages, "read_page", {"text": PAGE}),
+]
+# Each method of a class that asks, with its arguments by the names of the interface.
+ASKING = [
+    (MACHINE, "letters", {}), (MACHINE, "begin", {}), (MACHINE, "end", {}), (MACHINE, "steps", {"letter": "x"}),
+    (MACHINE, "weight", {"word": ("x", "y", "x")}), (MACHINE, "least", {}), (MACHINE, "plus", {"other": MACHINE}),
+    (MACHINE, "times", {"other": MACHINE}), (MACHINE, "unlike", {"other": MACHINE}),
+    (MACHINE, "unlike", {"other": Machine([], [], {}, [])}), (BOOK, "steps", {}), (BOOK, "names", {}), (BOOK, "claims", {}),
+    (BOOK, "text_of", {"name": "C"}), (BOOK, "term_of", {"name": "C"}), (BOOK, "leaning", {"name": "A"}),
+    (BOOK, "claim", {"name": "D"}), (BOOK, "paper", {"name": "D"}), (BOOK, "paper", {"name": "E"}), (BOOK, "twin", {}),
+    (Desk(book=BOOK), "say", {"line": "text C"}),
 ]
 
 
@@ -139,7 +162,7 @@ def all_calls():
     for home, calls in ((shares, SHARE_CALLS), (tables, TABLE_CALLS)):
         for name, told in calls:
             yield getattr(home, name), told
-    for home, name, told in OTHER_CALLS:
+    for home, name, told in OTHER_CALLS + ASKING:
         yield getattr(home, name), told
 
 
@@ -241,7 +264,7 @@ class Handling(unittest.TestCase):
                 answer = work(*told.values())
                 self.assertEqual(work(**told), answer)
                 self.assertEqual(work(**{name: told[name] for name in reversed(names)}), answer)
-                self.assertEqual(work(told[names[0]], **{name: told[name] for name in names[1:]}), answer)
+                self.assertEqual(work(*[told[name] for name in names[:1]], **{name: told[name] for name in names[1:]}), answer)
                 told_names = inspect.signature(work).parameters
                 self.assertEqual([name for name in told_names if told_names[name].kind == inspect.Parameter.POSITIONAL_OR_KEYWORD],
                                  names)
@@ -251,10 +274,15 @@ class Handling(unittest.TestCase):
         self.assertEqual(inspect.signature(shares.share).parameters["bottom"].default, 1)
         self.assertEqual(changes.nudged(X, "x"), S(1))
         self.assertEqual(inspect.signature(changes.nudged).parameters["by"].default, S(1))
+        self.assertEqual(steady.weights(STEADY), steady.weights(STEADY, most=3))
+        self.assertEqual(Desk().book, Desk(book=None).book)
 
     def test_what_stands_behind_a_star_is_handed_in_by_its_name(self):
         self.assertEqual(changes.nudged(by=Y, letter="x", term=X), Y)
         self.assertRaises(TypeError, changes.nudged, X, "x", Y)
+        self.assertEqual(steady.weights(most=0, term=STEADY), [((), (1, 2))])
+        self.assertRaises(TypeError, steady.weights, STEADY, 2)
+        self.assertRaises(TypeError, Desk, BOOK)
 
     def test_asked_again_the_same_is_told(self):
         for work, told in all_calls():
@@ -280,7 +308,8 @@ class Handling(unittest.TestCase):
                 (BadSquare, squares.square_web, ([[X], [X]],)), (BadTerm, squares.rank_of, ([[X, [X]]],)),
                 (Unsound, squares.rank_of, ([[X, BAD], [X, Y]],)), (BadTerm, changes.put, (X, {"y": [X], "x": X})),
                 (BadTerm, changes.put, (BAD, {"x": BAD, "y": BAD})), (BadTerm, changes.nudged, ([X], "x")),
-                (BadTerm, changes.turned, ([X],))):
+                (BadTerm, changes.turned, ([X],)), (Unsteady, steady.machine_of, (undo(X),)), (BadTerm, steady.plain, ([X],)),
+                (BadPage, pages.read_page, (PAGE + "x",))):
             before = copy.deepcopy(handed)
             for _ in range(2):
                 with self.assertRaises(refusal) as caught:
@@ -289,6 +318,39 @@ class Handling(unittest.TestCase):
                 self.assertIsInstance(caught.exception, (NeverError, LookupError))
             self.assertEqual(handed, before)
             self.assertEqual(kinds_in(handed), kinds_in(before))
+
+
+class Objects(unittest.TestCase):
+    """Machines and books are not changed by asking, nor by turns."""
+
+    def test_asking_changes_nothing(self):
+        four = (MACHINE.letters(), MACHINE.begin(), {name: MACHINE.steps(name) for name in MACHINE.letters()}, MACHINE.end())
+        for home, name, told in ASKING:
+            getattr(home, name)(**told)
+        self.assertEqual(Machine(*four), MACHINE)
+        self.assertEqual((pages.page(BOOK), BOOK.steps(), BOOK), (PAGE, (0, 0), pages.read_page(PAGE)))
+
+    def test_by_turns(self):
+        first = [work(**told) for work, told in all_calls()]
+        for _ in range(2):
+            again = [work(**told) for work, told in reversed(list(all_calls()))]
+            self.assertEqual(again[::-1], first)
+
+    def test_two_by_turns(self):
+        one, other = Book(), Book()
+        for at, name in enumerate(["A", "B", "C"]):
+            one.do(("line", name, "x" if at == 0 else "A + 1"))
+            other.do(("line", name, "y" if at == 0 else "A*A"))
+        self.assertEqual([one.text_of(name) for name in "ABC"], ["x", "A + 1", "A + 1"])
+        self.assertEqual([other.text_of(name) for name in "ABC"], ["y", "A*A", "A*A"])
+        one.undo()
+        self.assertEqual((one.steps(), other.steps()), ((2, 1), (3, 0)))
+
+    def test_what_a_book_told_may_be_changed(self):
+        book = pages.read_page(PAGE)
+        for told in (book.names(), book.claims(), book.leaning("A"), book.paper("E")[1], book.paper("D")[1]):
+            emptied(told)
+        self.assertEqual((pages.page(book), book.paper("E"), book.paper("D")), (PAGE, BOOK.paper("E"), BOOK.paper("D")))
 
 
 class HandedOn(unittest.TestCase):
