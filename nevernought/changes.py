@@ -17,7 +17,8 @@ def with_put(term, by):
         return by.get(term[1], term)
     if term[0] == "share":
         return term
-    return (term[0], *[with_put(thing, by) for thing in things_in(term)])
+    things = [with_put(thing, by) for thing in things_in(term)]
+    return (term[0], *things)
 
 
 def put(term, by):

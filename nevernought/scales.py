@@ -90,8 +90,11 @@ def one_at(spot, many):
     return [ONE if at == spot else NOUGHT for at in range(many)]
 
 
-def words_reached(scales):
-    """The words, from the least on, whose rows aren't made up of those of lesser ones, and the span of these."""
+def words_reached(scales, to_the_first):
+    """The words, from the least on, whose rows aren't made up of those of lesser ones, and the span of these.
+
+    Where it is wanted so, these are told up to the first one that doesn't weigh nought.
+    """
     span = Span()
     words = []
     waiting = [((), scales.first[0])]
@@ -102,6 +105,9 @@ def words_reached(scales):
         # What lesser words make up is made up by lesser ones behind any further letter, too.
         if rest is not None:
             words.append(word)
+            # As long as lesser words weigh nought what they take off a row weighs nothing.
+            if to_the_first and met(rest, scales.last[0]) != 0:
+                break
             waiting += [(word + (letter,), led(rest, scales.tables[letter][0])) for letter in scales.order]
         at += 1
     return words, span
@@ -120,7 +126,7 @@ def made_up(wanted, lines, leads):
 def least_build(scales):
     """The build of the least machine that weighs as the scales do."""
     scales = narrowed(scales)
-    words, span = words_reached(scales)
+    words, span = words_reached(scales, False)
     rows = {word: one_at(at, len(words)) for at, word in enumerate(words)}
     lines = {word: word_line(scales, word) for word in words}
     # Words without rooms of their own, one letter longer than those with rooms.
@@ -136,12 +142,9 @@ def least_build(scales):
 
 def least_weighed(scales):
     """The least word that doesn't weigh nought, or None."""
-    words, span = words_reached(scales)
-    # Up to that word all lesser ones weigh nought, so what they take off of its row weighs nothing.
-    for word, row in zip(words, span.rows):
-        if met(row, scales.last[0]) != 0:
-            return word
-    return None
+    words, span = words_reached(scales, True)
+    found = [word for word, row in zip(words, span.rows) if met(row, scales.last[0]) != 0]
+    return found[0] if found else None
 
 
 def words_weighed(scales, most):

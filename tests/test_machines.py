@@ -293,6 +293,16 @@ class Unlike(unittest.TestCase):
             seen.add(right if right is None else len(right))
         self.assertTrue({None, 0, 1, 2, 3} <= seen)
 
+    def test_great_shares(self):
+        chance = random.Random(73)
+        start = time.process_time()
+        one, other = (some_machine(chance, 12, "abcd", lambda: some_share(chance, 12)) for _ in range(2))
+        self.assertEqual(one.unlike(other), ())
+        steps = {letter: one.steps(letter) for letter in one.letters()}
+        letters, begin = one.letters(), one.begin()
+        self.assertEqual(Machine(letters, begin, steps, row(*[0] * 12)).unlike(one), ())
+        self.assertLess(time.process_time() - start, 20)
+
     def test_least_by_length_and_then_as_tuples(self):
         one = Machine(["b", "ab"], row(1, 0), {"b": whole([[0, 1], [0, 0]]), "ab": whole([[0, 2], [0, 0]])}, row(0, 1))
         self.assertEqual(one.unlike(EMPTY), ("ab",))
